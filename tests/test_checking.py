@@ -52,7 +52,7 @@ class Right(TestCase):
 
     def test_numbers_of_arguments(self):
         self.right("give g().p;", "give g(x).q;", "let m = f(z, z); give x;", "let m = f(z, z, z); give x;")
-        self.wrong("let m = f(z, z, z, z); give x;", "let m = f(); give x;", "let m = h(); give x;",
+        self.wrong("let m = f(z); give x;", "let m = f(z, z, z, z); give x;", "let m = f(); give x;", "let m = h(); give x;",
                    "let m = g(x, x); give x;", "let m = k(z, z); give x;")
 
     def test_several_own_types(self):

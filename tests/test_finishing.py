@@ -59,6 +59,7 @@ class Words(TestCase):
         self.check("let m = f", "({q: x});")
         self.check("let m = f(", "{q: x});")
         self.check("let m = f({", "q: x});")
+        self.check("let m = f({q: {", "}});")
         self.check("let m = f(z", ", {p: x.p, q: z});")
         self.check("let m = f(z,", "{p: x.p, q: z});")
         self.check("let m = f(z, {p: x", ".p, q: z});")
@@ -227,7 +228,7 @@ class Shows(TestCase):
         room = read_room("type a\nname x: {p: {p: a}}\ngoal a")
         table = finish(room, []).table
         self.assertIs(Finishing(split_text("give x.p.p;"), table).shows(room, []), True)
-        self.assertIs(Finishing(split_text("let m = x;"), table).shows(room, []), False)
+        self.assertIs(Finishing(split_text("let m = x.p;"), table).shows(room, []), False)
 
     def test_attributes_may_be_changed(self):
         found = finish(ROOM, self.WORDS)

@@ -34,7 +34,8 @@ class Types(TestCase):
 
     def test_other_values_are_none(self):
         day = base("day")
-        for thing in [("any",), (), ("base",), ("base", "a", "b"), ("record",), ("record", (), ()), ("list", "a"),
+        for thing in [("any",), (), ("base",), ("base", "a", "b"), ("record",), ("record", (), ()), ("list", "a"), ("list", ()),
+                      ("any", ()), ("base", ()), (["record"], ()),
                       "base", "ab", None, 1, True, {}, ("record", "ab"), ("record", (("a",),)),
                       ("record", (("a", day, day),)), ("record", ("ab",)), ("record", day), (day, day)]:
             self.assertIs(is_type(thing), False, repr(thing))

@@ -146,8 +146,8 @@ class Equality(TestCase):
 class Asking(TestCase):
     def test_in(self):
         told = room(names={"x": A}, functions={"f": [([("u", A)], 1, A)]})
-        self.assertEqual([word in told for word in ["x", "f", "a", "u", "z", "", 3, None]],
-                         [True, True, False, False, False, False, False, False])
+        self.assertEqual([word in told for word in ["x", "f", "a", "u", "z", "", 3, None, ["x"]]],
+                         [True, True] + [False] * 7)
 
     def test_is_below_for_base_types(self):
         told = room(bases=["a", "b", "c", "d"], order=[("b", "c"), ("a", "b")])
