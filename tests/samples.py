@@ -10,6 +10,8 @@ DAYS = ("type day\n"
         "fun meet(who: {name: day}): day\n"
         "goal day\n")
 
+BAD_WORDS = [None, "give", 3, ["?"], ["any"], ["give", 3], [["give"]], ["give"] * 201, ["A"], [""], {"give": 1}]
+
 
 def days():
     """The room of DOC.md's examples."""

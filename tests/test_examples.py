@@ -28,6 +28,75 @@ FINISHING = r"""
 [['name', ':', 'now', '}', ')', ';'], 4, 4]
 """
 
+HOLES = r"""
+>>> from typingroom.holes import hole, is_filling
+>>> from typingroom.roomtexts import read_room
+>>> room = read_room('type day\ntype time below day\nname now: time\nname plan: {at: day, who: {name: day}}\nfun meet(when: time, note: day =): {id: time}\nfun meet(who: {name: day}): day\ngoal day\n')
+>>> words = ['give', 'meet', '(', '?', '.', 'who', ')', ';']
+>>> [hole(room, words), is_filling(room, words, room.names['plan'])]
+[[('record', (('who', ('record', (('name', ('base', 'day')),))),))], True]
+"""
+
+HELPING = r"""
+>>> from typingroom.helping import meant, own_types
+>>> from typingroom.roomtexts import read_room
+>>> from typingroom.words import split_text
+>>> room = read_room('type day\ntype time below day\nname now: time\nname plan: {at: day, who: {name: day}}\nfun meet(when: time, note: day =): {id: time}\nfun meet(who: {name: day}): day\ngoal day\n')
+>>> [meant(room, split_text('give meet ( now , meet (')), own_types(room, split_text('let k = meet ( now ) ; give k . id ;'), 'k')]
+[[('meet', 1, (0,)), ('meet', 0, (0, 1))], [('record', (('id', ('base', 'time')),))]]
+"""
+
+COUNTING = r"""
+>>> from typingroom.counting import ending, endings, number_of
+>>> from typingroom.roomtexts import read_room
+>>> room = read_room('type day\ntype time below day\nname now: time\nname plan: {at: day, who: {name: day}}\nfun meet(when: time, note: day =): {id: time}\nfun meet(who: {name: day}): day\ngoal day\n')
+>>> words = ['give', 'meet', '(']
+>>> [endings(room, words, 8), ending(room, words, 5, 1), number_of(room, words, ['now', ')', '.', 'id', ';'])]
+[[0, 0, 0, 0, 2, 0, 2, 0], ['plan', '.', 'who', ')', ';'], 0]
+"""
+
+EDITS = r"""
+>>> from typingroom.edits import Edit, carried, shrunk, stale
+>>> from typingroom.roomtexts import read_room
+>>> room = read_room('type day\ntype time below day\nname now: time\nname plan: {at: day, who: {name: day}}\nfun meet(when: time, note: day =): {id: time}\nfun meet(who: {name: day}): day\ngoal day\n')
+>>> edit = Edit(1, 2, ['meet', '(', 'now', ')', '.', 'id'])
+>>> [edit(['give', 'now', ';']), stale(room, ['give', 'now', ';'], edit), carried(Edit(2, 2, ['x']), edit) == Edit(7, 7, ['x']), edit.growth()]
+[['give', 'meet', '(', 'now', ')', '.', 'id', ';'], [2, 3, 4, 5, 6], True, 5]
+"""
+
+EDITORS = r"""
+>>> from typingroom.editors import Editor, watcher
+>>> from typingroom.errors import Dead
+>>> from typingroom.roomtexts import read_room
+>>> room = read_room('type day\ntype time below day\nname now: time\nname plan: {at: day, who: {name: day}}\nfun meet(when: time, note: day =): {id: time}\nfun meet(who: {name: day}): day\ngoal day\n')
+>>> editor = Editor.careful(room, 'give')
+>>> news = watcher(editor)
+>>> told = editor.type_in('plan', '.', 'at')
+>>> [list(editor), editor(';'), news().words, editor.text(numbers=True)]
+[['give', 'plan', '.', 'at'], True, ('plan', '.', 'at'), '  0  give plan . at\n']
+"""
+
+TALKS = r"""
+>>> from typingroom.edits import Edit
+>>> from typingroom.roomtexts import read_room
+>>> from typingroom.talks import Talk
+>>> room = read_room('type day\ntype time below day\nname now: time\nname plan: {at: day, who: {name: day}}\nfun meet(when: time, note: day =): {id: time}\nfun meet(who: {name: day}): day\ngoal day\n')
+>>> talk = Talk(room, ['give', 'plan', '.', 'who'])
+>>> numbers = [talk.ask(), talk.ask(1), talk.ask(2)]
+>>> talk = talk.edit(Edit(0, 0, ['let', 'k', '=', 'now', ';']))
+>>> [[talk.place(number) for number in numbers], list(talk.each_right()), talk.answer(0).words]
+[[9, 6, 7], [0, 2], ['.']]
+"""
+
+MANYHOLES = r"""
+>>> from typingroom.manyholes import are_fillings, holes
+>>> from typingroom.roomtexts import read_room
+>>> room = read_room('type a\ntype b\nfun f(v: a, w: b): b\nfun f(v: b, w: a): b\nname x: a\ngoal b\n')
+>>> words = ['give', 'f', '(', '?', ',', '?', ')', ';']
+>>> [holes(room, words), are_fillings(room, words, (('base', 'a'), ('base', 'a')))]
+[[(('base', 'a'), ('base', 'b')), (('base', 'b'), ('base', 'a'))], False]
+"""
+
 
 class Examples(TestCase):
     def run_example(self, text):
@@ -45,3 +114,24 @@ class Examples(TestCase):
 
     def test_finishing(self):
         self.run_example(FINISHING)
+
+    def test_holes(self):
+        self.run_example(HOLES)
+
+    def test_helping(self):
+        self.run_example(HELPING)
+
+    def test_counting(self):
+        self.run_example(COUNTING)
+
+    def test_edits(self):
+        self.run_example(EDITS)
+
+    def test_editors(self):
+        self.run_example(EDITORS)
+
+    def test_talks(self):
+        self.run_example(TALKS)
+
+    def test_manyholes(self):
+        self.run_example(MANYHOLES)

@@ -18,9 +18,10 @@ ALLOWED_NODES = (
     ast.Slice, ast.Call, ast.keyword, ast.BinOp, ast.UnaryOp, ast.BoolOp, ast.Compare, ast.IfExp, ast.ListComp,
     ast.DictComp, ast.comprehension, ast.JoinedStr, ast.FormattedValue, ast.Load, ast.Store, ast.Add, ast.Sub,
     ast.Mult, ast.FloorDiv, ast.Mod, ast.USub, ast.Not, ast.And, ast.Or, ast.Eq, ast.NotEq, ast.Lt, ast.LtE, ast.Gt,
-    ast.GtE, ast.Is, ast.IsNot, ast.In, ast.NotIn)
+    ast.GtE, ast.Is, ast.IsNot, ast.In, ast.NotIn, ast.BitOr, ast.BitAnd, ast.LShift, ast.RShift, ast.Nonlocal,
+    ast.Yield, ast.Starred)
 BUILTINS = ("len range enumerate zip min max sum abs sorted reversed int str bool bytes list tuple dict set isinstance "
-            "ord repr any all divmod Exception ValueError KeyError NotImplemented super").split()
+            "ord repr any all divmod Exception ValueError KeyError NotImplemented super iter staticmethod classmethod").split()
 SPECIAL = ("__init__ __eq__ __repr__ __str__ __len__ __call__ __iter__ __contains__ __bool__ __add__").split()
 METHODS = ("append clear copy count endswith extend find get index insert isalnum isalpha isdigit islower isspace "
            "isupper items join keys ljust lower lstrip partition pop remove replace reverse rfind rjust rpartition "
@@ -33,10 +34,18 @@ INTERFACE = {
                "BadPlan", "TooLarge"],
     "kinds": ["is_type", "type_text"], "rooms": ["Room"], "roomtexts": ["read_room", "write_room"],
     "words": ["split_text", "join_words"], "checking": ["is_right"],
-    "offering": ["broken", "offers", "completions", "Offers", "Finishing", "finish"]}
+    "offering": ["broken", "offers", "completions", "Offers", "Finishing", "finish"],
+    "holes": ["hole", "is_filling"], "helping": ["meant", "own_types"], "counting": ["endings", "ending", "number_of"],
+    "edits": ["Edit", "carried", "shrunk", "answers", "stale"], "editors": ["Editor", "watcher"], "talks": ["Talk"],
+    "manyholes": ["holes", "are_fillings"]}
 OWN_METHODS = {("rooms", "Room"): ["__init__", "__eq__", "__contains__", "is_below"],
                ("offering", "Offers"): ["__init__", "__eq__", "__contains__"],
-               ("offering", "Finishing"): ["__init__", "__eq__", "__len__", "shows"]}
+               ("offering", "Finishing"): ["__init__", "__eq__", "__len__", "shows"],
+               ("edits", "Edit"): ["__init__", "__eq__", "__len__", "__bool__", "__call__", "__add__", "growth", "undone"],
+               ("editors", "Editor"): ["__init__", "__len__", "__iter__", "__contains__", "__call__", "careful", "gap",
+                                       "PLACES", "be_strict", "type_in", "edit", "trial", "keep", "text", "each_offer"],
+               ("talks", "Talk"): ["__init__", "__len__", "__iter__", "edit", "ask", "answer", "place", "is_right",
+                                   "each_right"]}
 
 
 def trees():
@@ -130,14 +139,53 @@ class Statements(TestCase):
             self.assertNotEqual(free, [], "files import each other")
             links = {module: links[module] for module in links if module not in free}
 
-    def test_no_decorators_annotations_or_star_parameters(self):
+    def test_decorators_annotations_and_star_parameters(self):
         for path, tree in trees():
+            methods = [id(node) for kind in nodes(tree, ast.ClassDef) for node in kind.body]
             for node in nodes(tree, ast.FunctionDef, ast.ClassDef):
-                self.assertEqual(node.decorator_list, [], (path, node.lineno))
+                names = [decorator.id for decorator in node.decorator_list]
+                self.assertIn(names, [[], ["staticmethod"], ["classmethod"]], (path, node.lineno))
+                self.assertTrue(names == [] or id(node) in methods, (path, node.lineno))
             for node in nodes(tree, ast.arg):
                 self.assertIsNone(node.annotation, (path, node.lineno))
-            for node in nodes(tree, ast.arguments):
-                self.assertFalse(node.vararg or node.kwarg or node.kwonlyargs or node.posonlyargs, path)
+            for node in nodes(tree, ast.FunctionDef, ast.Lambda):
+                told = node.args
+                self.assertFalse(told.kwarg or told.posonlyargs, path)
+                self.assertTrue(id(node) in methods or not (told.vararg or told.kwonlyargs), path)
+                for value in told.defaults + [value for value in told.kw_defaults if value is not None]:
+                    self.assertTrue(isinstance(value, (ast.Constant, ast.Tuple)) and not nodes(value, ast.Name), path)
+
+    def test_what_a_finally_holds(self):
+        for path, tree in trees():
+            for node in nodes(tree, ast.Try):
+                for row in node.finalbody:
+                    self.assertIsInstance(row, ast.Assign, (path, row.lineno))
+                    for part in row.targets + [row.value]:
+                        self.assertIsInstance(part, (ast.Name, ast.Attribute), (path, row.lineno))
+                self.assertEqual(node.handlers, [], (path, node.lineno))
+
+    def test_generators_and_nested_functions(self):
+        for path, tree in trees():
+            yields = nodes(tree, ast.Yield)
+            rows = [id(node.value) for node in nodes(tree, ast.Expr)]
+            self.assertEqual([node.lineno for node in yields if id(node) not in rows], [], path)
+            inner = [other for node in nodes(tree, ast.FunctionDef) for other in nodes(node, ast.FunctionDef)
+                     if other is not node]
+            for node in nodes(tree, ast.Nonlocal):
+                self.assertTrue(any([other.body[0] is node for other in inner]), (path, node.lineno))
+            for node in nodes(tree, ast.FunctionDef):
+                if node.name in SPECIAL or node.decorator_list:
+                    self.assertEqual(nodes(node, ast.Yield), [], (path, node.lineno))
+
+    def test_operators_change_nothing(self):
+        for path, tree in trees():
+            for node in nodes(tree, ast.FunctionDef):
+                if node.name in SPECIAL and node.name not in ("__init__", "__call__"):
+                    self.assertEqual(nodes(node, ast.Assign, ast.AugAssign), [], (path, node.lineno))
+                if node.name == "__iter__":
+                    self.assertRegex(ast.unparse(node.body), r"^return iter\(self\.\w+\)$")
+                if node.name == "__len__":
+                    self.assertRegex(ast.unparse(node.body), r"^return len\(self\.\w+\)$")
 
 
 def names_of(node):
@@ -197,11 +245,20 @@ class Names(TestCase):
                     self.assertNotIn(node.attr, taken, (path, node.attr))
 
     def test_no_name_is_a_method_and_an_attribute(self):
-        methods = {method.name for _, tree in trees() for node in nodes(tree, ast.ClassDef)
-                   for method in nodes(node, ast.FunctionDef)}
-        stored = {node.attr for _, tree in trees() for node in nodes(tree, ast.Attribute)
-                  if isinstance(node.ctx, ast.Store)}
-        self.assertEqual(methods & stored, set())
+        classes = [node for _, tree in trees() for node in nodes(tree, ast.ClassDef)]
+        stored = {node.name: {part.attr for part in nodes(node, ast.Attribute) if isinstance(part.ctx, ast.Store)
+                              and getattr(part.value, "id", "") == "self"} for node in classes}
+        for node in classes:
+            for method in nodes(node, ast.FunctionDef):
+                self.assertNotIn(method.name, stored[node.name], node.name)
+                if any(method.name in names for names in stored.values()):
+                    self.assertEqual([method.decorator_list, nodes(method, ast.Yield)], [[], []], method.name)
+
+    def test_no_method_is_read_off_a_class(self):
+        classes = {node.name for _, tree in trees() for node in nodes(tree, ast.ClassDef)}
+        for path, tree in trees():
+            for node in nodes(tree, ast.Attribute):
+                self.assertNotIn(getattr(node.value, "id", ""), classes, (path, node.lineno))
 
 
 class Expressions(TestCase):
@@ -233,6 +290,7 @@ class Expressions(TestCase):
             kinds = [id(part) for node in nodes(tree, ast.Call) if isinstance(node.func, ast.Name)
                      and node.func.id == "isinstance" for part in ast.walk(node.args[1])]
             bases = [id(base) for node in nodes(tree, ast.ClassDef) for base in node.bases]
+            bases += [id(name) for node in nodes(tree, ast.FunctionDef) for name in node.decorator_list]
             returned = [id(node.value) for node in nodes(tree, ast.Return)]
             for node in nodes(tree, ast.Name):
                 if is_builtin(node.id):
@@ -270,6 +328,30 @@ class Interface(TestCase):
                 ("words", "join_words", "(words)"), ("checking", "is_right", "(room, words)"),
                 ("offering", "broken", "(room, words)"), ("offering", "offers", "(room, words)"),
                 ("offering", "completions", "(room, words, letters)"), ("offering", "Offers", "(words, but)"),
-                ("offering", "Finishing", "(words, table)"), ("offering", "finish", "(room, words)")]:
+                ("offering", "Finishing", "(words, table)"), ("offering", "finish", "(room, words)"),
+                ("holes", "hole", "(room, words)"), ("holes", "is_filling", "(room, words, kind)"),
+                ("helping", "meant", "(room, words)"), ("helping", "own_types", "(room, words, name)"),
+                ("counting", "endings", "(room, words, most)"), ("counting", "ending", "(room, words, many, number)"),
+                ("counting", "number_of", "(room, words, more)"), ("edits", "Edit", "(first, last, words)"),
+                ("edits", "carried", "(one, other)"), ("edits", "shrunk", "(words, more)"),
+                ("edits", "answers", "(room, words)"), ("edits", "stale", "(room, words, edit)"),
+                ("editors", "Editor", "(room, words=(), *, strict=False)"), ("editors", "watcher", "(editor)"),
+                ("talks", "Talk", "(room, words=())"), ("manyholes", "holes", "(room, words)"),
+                ("manyholes", "are_fillings", "(room, words, kinds)")]:
             found = inspect.signature(getattr(import_module("typingroom." + name), thing))
             self.assertEqual(str(found), told, thing)
+
+    def test_arguments_of_methods(self):
+        for name, thing, method, told in [
+                ("edits", "Edit", "growth", "(self)"), ("edits", "Edit", "undone", "(self, words)"),
+                ("edits", "Edit", "__call__", "(self, words)"), ("editors", "Editor", "careful", "(room, *words)"),
+                ("editors", "Editor", "gap", "(words, more)"), ("editors", "Editor", "__call__", "(self, word)"),
+                ("editors", "Editor", "be_strict", "(self, strict=True)"), ("editors", "Editor", "keep", "(self)"),
+                ("editors", "Editor", "type_in", "(self, *words)"), ("editors", "Editor", "edit", "(self, *edits)"),
+                ("editors", "Editor", "trial", "(self, work)"), ("editors", "Editor", "each_offer", "(self)"),
+                ("editors", "Editor", "text", "(self, *, numbers=False)"), ("talks", "Talk", "edit", "(self, *edits)"),
+                ("talks", "Talk", "ask", "(self, place=None)"), ("talks", "Talk", "answer", "(self, number)"),
+                ("talks", "Talk", "place", "(self, number)"), ("talks", "Talk", "is_right", "(self, number)"),
+                ("talks", "Talk", "each_right", "(self)"), ("offering", "Finishing", "shows", "(self, room, words)")]:
+            found = inspect.signature(getattr(getattr(import_module("typingroom." + name), thing), method))
+            self.assertEqual(str(found), told, (thing, method))

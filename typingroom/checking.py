@@ -5,11 +5,15 @@ from typingroom.reading import Reader, begin, step
 from typingroom.words import checked_words
 
 
+def plain_reader(room):
+    """A reader that knows nothing of what could still come, and so needs no table."""
+    return Reader(Lore(room), {})
+
+
 def is_right(room, words):
     """Whether a text is right."""
     told = checked_words(words)
-    # Nothing is asked about what could still come, so that no table is needed.
-    reader = Reader(Lore(room), {})
+    reader = plain_reader(room)
     state = begin()
     for word in told:
         state = step(reader, state, word)

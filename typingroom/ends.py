@@ -111,15 +111,26 @@ def alive_step(reader, state, word):
 def with_table(reader, state, table):
     """A reader with another table, and the state with frames that go by it."""
     other = Reader(reader.lore, table)
+    return other, framed(other, state, None, frames_of(state))
+
+
+def frames_of(state):
+    """The list of the frames of a state, from the outside inwards."""
     frames = []
     frame = state.frame
     while frame is not None:
         frames.append(frame)
         frame = frame.outer
-    for old in reversed(frames):
+    return frames[::-1]
+
+
+def framed(reader, state, outer, frames):
+    """The state with such frames, from the outside inwards, in another outer one, by the reader's table."""
+    frame = outer
+    for old in frames:
         frame = old.within(frame)
-        frame.settle(reader.lore, table)
-    return other, State(state.mode, frame, state.lets, state.types, state.fits)
+        frame.settle(reader.lore, reader.table)
+    return State(state.mode, frame, state.lets, state.types, state.fits)
 
 
 def ending_words(reader, state):

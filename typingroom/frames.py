@@ -32,10 +32,11 @@ class Statement:
 
 
 class Call:
-    """A call with the signatures that its arguments so far fit, and the place of the argument at hand."""
+    """A call of a function's word, the signatures that its arguments so far fit, and the argument's place at hand."""
 
-    def __init__(self, outer, signatures, at):
+    def __init__(self, outer, word, signatures, at):
         self.outer = outer
+        self.word = word
         self.signatures = signatures
         self.at = at
         self.ends = {}
@@ -55,7 +56,7 @@ class Call:
 
     def within(self, outer):
         """The same in another outer frame."""
-        return Call(outer, self.signatures, self.at)
+        return Call(outer, self.word, self.signatures, self.at)
 
     def fewest_from(self, lore, table, signature, first):
         """The fewest words from the argument at a place on, if there is one, to the statement's end, or None."""

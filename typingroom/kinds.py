@@ -1,4 +1,4 @@
-"""Words, types and needs: which values are such, and their texts."""
+"""Words, types, needs and numbers: which values are such, and the texts of types."""
 
 ANY = ("any",)
 NO_WORDS = ("any", "give", "let")
@@ -16,6 +16,16 @@ def is_word(thing):
     if not isinstance(thing, str) or not 1 <= len(thing) <= LONGEST:
         return False
     return thing not in NO_WORDS and all([is_small(letter) for letter in thing])
+
+
+def is_whole(thing):
+    """Whether a value is an integer; True and False are none."""
+    return isinstance(thing, int) and not isinstance(thing, bool)
+
+
+def is_within(thing, least, most):
+    """Whether a value is an integer between these, both among them."""
+    return is_whole(thing) and least <= thing <= most
 
 
 def is_type(thing):
@@ -47,6 +57,13 @@ def is_row(thing, deepest):
     if not isinstance(thing, tuple) or len(thing) != 2:
         return False
     return is_word(thing[0]) and is_nested_type(thing[1], deepest)
+
+
+def nesting(kind):
+    """How deep a type is nested."""
+    if kind[0] == "base":
+        return 1
+    return 1 + max([nesting(inner) for _, inner in kind[1]], default=0)
 
 
 def type_text(told):

@@ -18,7 +18,8 @@ class Lore:
     def __init__(self, room):
         self.kinds = [ANY]
         self.fields = [{}]
-        self._above = room.above
+        # The room may be changed while this is still in use.
+        self._above = {base: list(above) for base, above in room.above.items()}
         self._numbers = {}
         self._below = {}
         self._steps = {}
@@ -32,7 +33,7 @@ class Lore:
         """Signatures as triples of the numbers of the parameters' types, how many are needed, and the result."""
         rows = []
         for parameters, needed, result in signatures:
-            rows.append(([self.numbered(kind) for _, kind in parameters], needed, self.numbered(result)))
+            rows.append((tuple([self.numbered(kind) for _, kind in parameters]), needed, self.numbered(result)))
         return rows
 
     def _all_needs(self):

@@ -39,6 +39,32 @@ def alive_state(reader, words):
     return state
 
 
+def offers_along(reader, words):
+    """The list of the Offers in front of each word, and behind the last one, as long as words are not dead."""
+    found = []
+    state = begin()
+    if fewest_to_end(reader, state) is None:
+        return found
+    for word in words:
+        found.append(offers_at(reader, state))
+        state = alive_step(reader, state, word)
+        if state is None:
+            return found
+    return found + [offers_at(reader, state)]
+
+
+def answer_by(reader, words):
+    """The Offers behind words, None if they are dead."""
+    state, _ = read_on(reader, words)
+    return None if state is None else offers_at(reader, state)
+
+
+def answers_by(reader, words):
+    """The list of the answers in front of each word, and behind the last one."""
+    found = offers_along(reader, words)
+    return found + [None] * (len(words) + 1 - len(found))
+
+
 def broken(room, words):
     """The place of the first word behind which words are dead, None if they are not."""
     told = checked_words(words)

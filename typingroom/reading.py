@@ -77,7 +77,7 @@ def at_expression(reader, state, word):
         choices = [need for need in state.frame.asked(lore) if need == NO_KIND or lore.is_record(need)]
         return State("fields", Braces(state.frame, choices, [], []), state.lets) if choices else None
     if word in lore.functions:
-        return reader.state("bracket", Call(state.frame, lore.functions[word], 0), state.lets)
+        return reader.state("bracket", Call(state.frame, word, lore.functions[word], 0), state.lets)
     types = lore.names[word] if word in lore.names else state.lets.get(word, [])
     return State("chain", state.frame, state.lets, types) if types else None
 
@@ -162,13 +162,13 @@ def end_statement(reader, state):
 
 def end_argument(reader, state, word):
     """The end of an argument, by a comma or by the end of the call."""
-    at = state.frame.at
-    rows = state.frame.signatures
-    rows = [row for row in rows if at < len(row[0]) and has_fit(reader, state, row[0][at])]
+    frame = state.frame
+    at = frame.at
+    rows = [row for row in frame.signatures if at < len(row[0]) and has_fit(reader, state, row[0][at])]
     if word == ")":
         return end_call(state, [row for row in rows if row[1] <= at + 1])
     rows = [row for row in rows if at + 1 < len(row[0])]
-    return reader.state("expression", Call(state.frame.outer, rows, at + 1), state.lets) if rows else None
+    return reader.state("expression", Call(frame.outer, frame.word, rows, at + 1), state.lets) if rows else None
 
 
 def end_call(state, signatures):

@@ -1,7 +1,7 @@
 """Rooms: base types with their order, names, functions and a goal."""
 
 from typingroom.errors import BadRoom, BadType
-from typingroom.kinds import ANY, is_need, is_type, is_word
+from typingroom.kinds import ANY, is_need, is_type, is_within, is_word
 
 MOST_BASES = 12
 MOST_NAMES = 20
@@ -137,6 +137,6 @@ def checked_signature(signature, above):
     if len(set(words)) != len(words):
         raise BadRoom("a parameter's word is there twice")
     rows = tuple([(word, checked_type(kind, above)) for word, kind in parameters])
-    if not isinstance(needed, int) or isinstance(needed, bool) or not 0 <= needed <= len(rows):
+    if not is_within(needed, 0, len(rows)):
         raise BadRoom("not a number of needed parameters")
     return (rows, needed, checked_type(result, above))

@@ -3,6 +3,7 @@
 from typingroom.errors import BadText, BadWords
 from typingroom.kinds import is_small, is_word
 
+HOLE = "?"
 SIGNS = ("=", ";", "(", ")", "{", "}", ",", ":", ".")
 MOST_WORDS = 200
 
@@ -46,6 +47,16 @@ def checked_words(words):
         raise BadWords("not a list of at most 200 words and signs")
     if not all([is_mark(word) for word in words]):
         raise BadWords("not words and signs alone")
+    return list(words)
+
+
+def checked_holed(words):
+    """A new list of the words, signs and holes that were given."""
+    if not isinstance(words, (list, tuple)):
+        raise BadWords("not a list of words, signs and holes")
+    checked_words([word for word in words if word != HOLE])
+    if len(words) > MOST_WORDS:
+        raise BadWords("more than 200 words, signs and holes")
     return list(words)
 
 
