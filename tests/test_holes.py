@@ -88,11 +88,10 @@ class Telling(TestCase):
         self.check("give f(f(hh));", B, record(p=C), room=room)
 
     def test_what_can_be_nothing(self):
-        for text in ["give hh.p(x);".replace("(x)", ".q.s.t.u.a.b.c"), "give zz(hh);", "give f(hh, zz);", "give x(hh);",
-                     "give f(hh, x, x);", "give g().p(hh);".replace(".p(hh)", ".p"), "give i({p: hh, q: zz});",
-                     "give f(x, {p: hh});", "give {};", "give r.s;"]:
-            if "hh" in text:
-                self.check(text)
+        for text in ["give hh.p.q.s.t.u.a.b.c;", "give zz(hh);", "give f(hh, zz);", "give x(hh);", "give f(hh, x, x);",
+                     "give i({p: hh, q: zz});", "give f(x, {p: hh});", "give f(hh).p;", "give f(hh.p, g());",
+                     "give {p: {q: hh}};", "give f({p: {q: hh}});"]:
+            self.check(text)
 
     def test_nested_eight_deep(self):
         self.check("give hh" + ".p" * 7 + ";", wrapped("p" * 7, B))
@@ -180,9 +179,8 @@ class NotSuch(TestCase):
             self.refused(text)
 
     def test_bad_words_come_first(self):
-        for words in BAD_WORDS + [["?", "any"], ["?"] * 201, ["give", "?", "??"], "?", [["?"]], ["?", 3], ["!"]]:
-            if words == ["?"]:
-                continue
+        given = [words for words in BAD_WORDS if words != ["?"]]
+        for words in given + [["?", "any"], ["?"] * 201, ["give", "?", "??"], "?", [["?"]], ["?", 3], ["!"]]:
             for room in [ROOM, read_room("type a\ngoal a")]:
                 raised(BadWords, hole, room, words)
                 raised(BadWords, is_filling, room, words, A)
