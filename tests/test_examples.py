@@ -97,6 +97,40 @@ MANYHOLES = r"""
 [[(('base', 'a'), ('base', 'b')), (('base', 'b'), ('base', 'a'))], False]
 """
 
+RIVALS = r"""
+>>> from typingroom.rivals import judge_rooms, lean_room, needless
+>>> from typingroom.roomtexts import read_room, write_room
+>>> one = read_room('type a\ntype b below a\nname x: b\nfun f(v: a): b\nfun f(v: b): b\ngoal a\n')
+>>> other = read_room('type a\ntype b below a\nname x: b\nfun f(v: a): {p: b}\ngoal a\n')
+>>> [judge_rooms(one, other).words, needless(one), len(write_room(lean_room(one)))]
+[['give', 'f', '(', 'x', ')', ';'], [('f', 0), ('f', 1)], 54]
+"""
+
+MENDING = r"""
+>>> from typingroom.mending import mend
+>>> from typingroom.roomtexts import read_room
+>>> room = read_room('type a\ntype b\nname x: {p: a}\nfun f(v: a): b\ngoal b\n')
+>>> told = mend(room, ['f', 'x', '.', 'q', ')'], ('base', 'b'))
+>>> [told.words, told.number]
+[['f', '(', 'x', '.', 'p', ')'], 2]
+"""
+
+PLANS = r"""
+>>> from typingroom.plans import plan
+>>> told = plan([('ask', 5), ('edit', 3), ('ask', 5), ('ask', 2)], 1)
+>>> [told.number, told.rows[0], len(told)]
+[8, (2,), 4]
+"""
+
+MEANINGS = r"""
+>>> from typingroom.meanings import judge_meanings, meanings
+>>> from typingroom.roomtexts import read_room
+>>> room = read_room('type a\ntype b below a\nname x: b\nfun f(v: a): a\nfun f(v: b): b\ngoal a\n')
+>>> told = judge_meanings(room)
+>>> [told.words, told.rows, meanings(room, ['give', 'f', '(', 'f', '(', 'x', ')', ')', ';'])]
+[['give', 'f', '(', 'x', ')', ';'], [(0,), (1,)], [(0, 0), (0, 1), (1, 1)]]
+"""
+
 
 class Examples(TestCase):
     def run_example(self, text):
@@ -135,3 +169,15 @@ class Examples(TestCase):
 
     def test_manyholes(self):
         self.run_example(MANYHOLES)
+
+    def test_rivals(self):
+        self.run_example(RIVALS)
+
+    def test_mending(self):
+        self.run_example(MENDING)
+
+    def test_plans(self):
+        self.run_example(PLANS)
+
+    def test_meanings(self):
+        self.run_example(MEANINGS)

@@ -37,7 +37,9 @@ INTERFACE = {
     "offering": ["broken", "offers", "completions", "Offers", "Finishing", "finish"],
     "holes": ["hole", "is_filling"], "helping": ["meant", "own_types"], "counting": ["endings", "ending", "number_of"],
     "edits": ["Edit", "carried", "shrunk", "answers", "stale"], "editors": ["Editor", "watcher"], "talks": ["Talk"],
-    "manyholes": ["holes", "are_fillings"]}
+    "manyholes": ["holes", "are_fillings"], "rivals": ["Same", "Unlike", "judge_rooms", "needless", "lean_room"],
+    "mending": ["Mend", "mend"], "plans": ["Plan", "plan"],
+    "meanings": ["meanings", "Clear", "Double", "judge_meanings"]}
 OWN_METHODS = {("rooms", "Room"): ["__init__", "__eq__", "__contains__", "is_below"],
                ("offering", "Offers"): ["__init__", "__eq__", "__contains__"],
                ("offering", "Finishing"): ["__init__", "__eq__", "__len__", "shows"],
@@ -45,7 +47,14 @@ OWN_METHODS = {("rooms", "Room"): ["__init__", "__eq__", "__contains__", "is_bel
                ("editors", "Editor"): ["__init__", "__len__", "__iter__", "__contains__", "__call__", "careful", "gap",
                                        "PLACES", "be_strict", "type_in", "edit", "trial", "keep", "text", "each_offer"],
                ("talks", "Talk"): ["__init__", "__len__", "__iter__", "edit", "ask", "answer", "place", "is_right",
-                                   "each_right"]}
+                                   "each_right"],
+               ("rivals", "Same"): ["__init__", "__eq__", "__bool__", "shows"],
+               ("rivals", "Unlike"): ["__init__", "__eq__", "__bool__", "shows"],
+               ("mending", "Mend"): ["__init__", "__eq__", "shows"],
+               ("plans", "Plan"): ["__init__", "__eq__", "__len__", "shows"],
+               ("meanings", "Clear"): ["__init__", "__eq__", "__bool__", "shows"],
+               ("meanings", "Double"): ["__init__", "__eq__", "__bool__", "shows"]}
+LIBRARY = {"heapq": {"heappop", "heappush"}}
 
 
 def trees():
@@ -125,6 +134,9 @@ class Statements(TestCase):
             links[path.stem] = []
             for node in nodes(tree, ast.ImportFrom):
                 self.assertIn(node, tree.body)
+                if node.module in LIBRARY:
+                    self.check_library(path, tree, node)
+                    continue
                 package, _, module = node.module.partition(".")
                 self.assertEqual([package, node.level], ["typingroom", 0], path)
                 links[path.stem].append(module)
@@ -138,6 +150,16 @@ class Statements(TestCase):
             free = [module for module in links if not any(other in links for other in links[module])]
             self.assertNotEqual(free, [], "files import each other")
             links = {module: links[module] for module in links if module not in free}
+
+    def check_library(self, path, tree, node):
+        """What the library has is called by its bare name alone."""
+        called = [id(call.func) for call in nodes(tree, ast.Call)]
+        for alias in node.names:
+            self.assertIsNone(alias.asname)
+            self.assertIn(alias.name, LIBRARY[node.module], path)
+            used = [name for name in nodes(tree, ast.Name) if name.id == alias.name]
+            self.assertNotEqual(used, [], (path, alias.name))
+            self.assertEqual([name.lineno for name in used if id(name) not in called], [], path)
 
     def test_decorators_annotations_and_star_parameters(self):
         for path, tree in trees():
@@ -162,7 +184,9 @@ class Statements(TestCase):
                     self.assertIsInstance(row, ast.Assign, (path, row.lineno))
                     for part in row.targets + [row.value]:
                         self.assertIsInstance(part, (ast.Name, ast.Attribute), (path, row.lineno))
-                self.assertEqual(node.handlers, [], (path, node.lineno))
+                errors = [handler.type.id for handler in node.handlers]
+                self.assertTrue(set(errors) <= set(INTERFACE["errors"]), (path, node.lineno))
+                self.assertFalse(node.finalbody and errors, (path, node.lineno))
 
     def test_generators_and_nested_functions(self):
         for path, tree in trees():
@@ -337,7 +361,13 @@ class Interface(TestCase):
                 ("edits", "answers", "(room, words)"), ("edits", "stale", "(room, words, edit)"),
                 ("editors", "Editor", "(room, words=(), *, strict=False)"), ("editors", "watcher", "(editor)"),
                 ("talks", "Talk", "(room, words=())"), ("manyholes", "holes", "(room, words)"),
-                ("manyholes", "are_fillings", "(room, words, kinds)")]:
+                ("manyholes", "are_fillings", "(room, words, kinds)"), ("rivals", "Same", "(chains, literals)"),
+                ("rivals", "Unlike", "(words)"), ("rivals", "judge_rooms", "(one, other)"),
+                ("rivals", "needless", "(room)"), ("rivals", "lean_room", "(room)"),
+                ("mending", "Mend", "(words, number, chains, exprs)"), ("mending", "mend", "(room, words, need)"),
+                ("plans", "Plan", "(rows, number, table)"), ("plans", "plan", "(deeds, most)"),
+                ("meanings", "meanings", "(room, words)"), ("meanings", "Clear", "(chains, literals)"),
+                ("meanings", "Double", "(words, rows)"), ("meanings", "judge_meanings", "(room)")]:
             found = inspect.signature(getattr(import_module("typingroom." + name), thing))
             self.assertEqual(str(found), told, thing)
 
@@ -352,6 +382,9 @@ class Interface(TestCase):
                 ("editors", "Editor", "text", "(self, *, numbers=False)"), ("talks", "Talk", "edit", "(self, *edits)"),
                 ("talks", "Talk", "ask", "(self, place=None)"), ("talks", "Talk", "answer", "(self, number)"),
                 ("talks", "Talk", "place", "(self, number)"), ("talks", "Talk", "is_right", "(self, number)"),
-                ("talks", "Talk", "each_right", "(self)"), ("offering", "Finishing", "shows", "(self, room, words)")]:
+                ("talks", "Talk", "each_right", "(self)"), ("offering", "Finishing", "shows", "(self, room, words)"),
+                ("rivals", "Same", "shows", "(self, one, other)"), ("rivals", "Unlike", "shows", "(self, one, other)"),
+                ("mending", "Mend", "shows", "(self, room, words, need)"), ("plans", "Plan", "shows", "(self, deeds, most)"),
+                ("meanings", "Clear", "shows", "(self, room)"), ("meanings", "Double", "shows", "(self, room)")]:
             found = inspect.signature(getattr(getattr(import_module("typingroom." + name), thing), method))
             self.assertEqual(str(found), told, (thing, method))

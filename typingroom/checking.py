@@ -12,10 +12,14 @@ def plain_reader(room):
 
 def is_right(room, words):
     """Whether a text is right."""
-    told = checked_words(words)
+    return is_right_text(room, checked_words(words))
+
+
+def is_right_text(room, words):
+    """Whether strings are a right text, which may have any number of words."""
     reader = plain_reader(room)
     state = begin()
-    for word in told:
+    for word in words:
         state = step(reader, state, word)
         if state is None:
             return False

@@ -1,10 +1,10 @@
 """Which types the names in the holes of a text can have.
 
-Going outside in, each expression of the give is asked to fit some needs: the goal, the types of a field of a literal,
-or those of an argument, one for each signature that the call can have. So a type fits a hole if and only if it is
-below one of finitely many types.
+Going outside in, each expression of the give is asked to fit some needs, and so is each hole. So a type fits a hole if
+and only if it is below one of finitely many types.
 """
 
+from typingroom.asking import Asking
 from typingroom.checking import plain_reader
 from typingroom.errors import NotWhole
 from typingroom.kinds import DEEPEST, is_type, nesting
@@ -21,9 +21,8 @@ class Fillings:
         reader = plain_reader(room)
         lets, place = read_lets(reader, told)
         self.lore = reader.lore
-        self._names = {**self.lore.names, **lets}
-        self._nodes = give_nodes(told, place)
-        self.many = len([node for node in self._nodes if node.word == HOLE])
+        self._asking = Asking(self.lore, {**self.lore.names, **lets}, give_nodes(told, place))
+        self.many = len([node for node in self._asking.nodes if node.word == HOLE])
         if self.many == 0:
             raise NotWhole(len(told))
         self._rows = {}
@@ -42,61 +41,18 @@ class Fillings:
 
     def _greatest_numbers(self):
         """The greatest rows, as tuples of the numbers of types."""
-        needs = self._asked()
-        for node in reversed(self._nodes):
+        needs = self._asking.asked()
+        for node in reversed(self._asking.nodes):
             for need in needs[node]:
                 self._rows[node, need] = self._rows_of(node, need)
-        return self._rows[self._nodes[0], self.lore.goal]
-
-    def _asked(self):
-        """A dict from the nodes to the lists of the needs that they can be asked to fit."""
-        waiting = {node: [] for node in self._nodes}
-        waiting[self._nodes[0]].append(self.lore.goal)
-        needs = {}
-        for node in self._nodes:
-            asked = each_once(waiting[node])
-            needs[node] = asked
-            for need in asked:
-                for way in self._ways_of(node, need):
-                    for part, inner in zip(node.parts, way):
-                        waiting[part].append(inner)
-        return needs
-
-    def _ways_of(self, node, need):
-        """The rows of needs of a node's parts with which it fits a need; none for a hole, which has no own types."""
-        if node.shape == "literal":
-            return self._literal_ways(node, need)
-        if node.shape == "call":
-            return self._call_ways(node, need)
-        return [() for kind in self._names.get(node.word, []) if self._leads(kind, node.path, need)]
-
-    def _literal_ways(self, node, need):
-        fields = self.lore.fields[need]
-        if not self.lore.is_record(need) or sorted(node.fields) != sorted(fields):
-            return []
-        return [tuple([fields[field] for field in node.fields])]
-
-    def _call_ways(self, node, need):
-        many = len(node.parts)
-        rows = self.lore.functions.get(node.word, [])
-        rows = [row for row in rows if row[1] <= many <= len(row[0]) and self._leads(row[2], node.path, need)]
-        return [row[0][:many] for row in rows]
-
-    def _leads(self, kind, path, need):
-        """Whether a type has these fields, one in the other, and the last one's type is below a need."""
-        at = kind
-        for field in path:
-            if field not in self.lore.fields[at]:
-                return False
-            at = self.lore.fields[at][field]
-        return self.lore.below(at, need)
+        return self._rows[self._asking.nodes[0], self.lore.goal]
 
     def _rows_of(self, node, need):
         """The greatest rows for the holes in a node with which it fits a need, when those of its parts are found."""
         if node.word == HOLE:
             return self._hole_rows(node, need)
         found = []
-        for way in self._ways_of(node, need):
+        for _, way in self._asking.ways(node, need):
             rows = [()]
             for part, inner in zip(node.parts, way):
                 rows = [row + more for row in rows for more in self._rows[part, inner]]

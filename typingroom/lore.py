@@ -38,11 +38,16 @@ class Lore:
 
     def _all_needs(self):
         """The room's needs: any, the goal, the types of parameters, and all types in these."""
-        found = {NO_KIND: True}
-        waiting = [self.goal]
+        asked = [NO_KIND, self.goal]
         for signatures in self.functions.values():
             for parameters, _, _ in signatures:
-                waiting.extend(parameters)
+                asked.extend(parameters)
+        return self.with_inner(asked)
+
+    def with_inner(self, numbers):
+        """The ascending list of some types and all types in these."""
+        found = {}
+        waiting = list(numbers)
         while waiting:
             number = waiting.pop()
             if number not in found:

@@ -48,6 +48,13 @@ def is_under(above, one, other):
     return all([field in held and is_under(above, held[field], kind) for field, kind in other[1]])
 
 
+def checked_room(thing):
+    """The value, which has to be a room."""
+    if not isinstance(thing, Room):
+        raise BadRoom("not a room")
+    return thing
+
+
 def is_list(thing):
     """Whether a value can be given as a list."""
     return isinstance(thing, (list, tuple))

@@ -1,8 +1,8 @@
 """Texts of rooms: reading and writing."""
 
-from typingroom.errors import BadRoom, BadText
+from typingroom.errors import BadText
 from typingroom.kinds import is_word, type_text
-from typingroom.rooms import Room
+from typingroom.rooms import Room, checked_room
 from typingroom.words import marks
 
 
@@ -162,8 +162,7 @@ def record_type(rows):
 
 def write_room(room):
     """The text of a room."""
-    if not isinstance(room, Room):
-        raise BadRoom("not a room")
+    checked_room(room)
     lines = [base_line(base, above) for base, above in room.above.items()]
     lines.extend(["name " + name + ": " + type_text(kind) for name, kind in room.names.items()])
     for function, signatures in room.functions.items():
