@@ -131,6 +131,42 @@ MEANINGS = r"""
 [['give', 'f', '(', 'x', ')', ';'], [(0,), (1,)], [(0, 0), (0, 1), (1, 1)]]
 """
 
+KEEPING = r"""
+>>> from typingroom.edits import Edit
+>>> from typingroom.keeping import anew, kept, nodes
+>>> words = ['give', 'f', '(', 'x', ',', 'y', ')', ';']
+>>> edit = Edit(3, 4, ['g', '(', ')'])
+>>> [nodes(words), anew(words, edit), len(kept(words, edit))]
+[[('give', 0, 8), ('call', 1, 7), ('name', 3, 4), ('name', 5, 6)], [('give', 0, 10), ('call', 1, 9), ('call', 3, 6)], 1]
+"""
+
+MOVING = r"""
+>>> from typingroom.moving import put_in, told_out, unused
+>>> words = ['give', 'f', '(', 'x', '.', 'p', ')', ';']
+>>> told = told_out(words, 3, 6, 'k')
+>>> [told, put_in(told, 'k') == words, unused(told)]
+[['let', 'k', '=', 'x', '.', 'p', ';', 'give', 'f', '(', 'k', ')', ';'], True, []]
+"""
+
+PATCHES = r"""
+>>> from typingroom.edits import Edit
+>>> from typingroom.patches import patch, together
+>>> one = patch([Edit(0, 1, ['a']), Edit(1, 1, ['b'])])
+>>> other = patch([Edit(3, 5, []), Edit(2, 2, ['c'])])
+>>> [one.changes, together(one, other).whole.changes, together(one, other).other.changes]
+[((0, 1, ('a', 'b')),), ((0, 1, ('a', 'b')), (2, 2, ('c',)), (3, 5, ())), ((3, 3, ('c',)), (4, 6, ()))]
+"""
+
+CROSSING = r"""
+>>> from typingroom.crossing import Crossing
+>>> from typingroom.edits import Edit
+>>> from typingroom.rooms import Room
+>>> room = Room(['num'], [], {'x': ('base', 'num')}, {}, ('base', 'num'))
+>>> told = Crossing(room, ['give', 'x', ';'], [('ask', 2), Edit(1, 2, ['z']), Edit(1, 2, ['x'])])
+>>> [told.rights(0), told.always(), told.soonest(0)]
+[[0, 2], [], 1]
+"""
+
 
 class Examples(TestCase):
     def run_example(self, text):
@@ -181,3 +217,15 @@ class Examples(TestCase):
 
     def test_meanings(self):
         self.run_example(MEANINGS)
+
+    def test_keeping(self):
+        self.run_example(KEEPING)
+
+    def test_moving(self):
+        self.run_example(MOVING)
+
+    def test_patches(self):
+        self.run_example(PATCHES)
+
+    def test_crossing(self):
+        self.run_example(CROSSING)

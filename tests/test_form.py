@@ -39,7 +39,9 @@ INTERFACE = {
     "edits": ["Edit", "carried", "shrunk", "answers", "stale"], "editors": ["Editor", "watcher"], "talks": ["Talk"],
     "manyholes": ["holes", "are_fillings"], "rivals": ["Same", "Unlike", "judge_rooms", "needless", "lean_room"],
     "mending": ["Mend", "mend"], "plans": ["Plan", "plan"],
-    "meanings": ["meanings", "Clear", "Double", "judge_meanings"]}
+    "meanings": ["meanings", "Clear", "Double", "judge_meanings"], "keeping": ["nodes", "kept", "anew"],
+    "moving": ["unused", "told_out", "put_in"],
+    "patches": ["Patch", "patch", "behind", "together", "all_together", "Together", "Clash"], "crossing": ["Crossing"]}
 OWN_METHODS = {("rooms", "Room"): ["__init__", "__eq__", "__contains__", "is_below"],
                ("offering", "Offers"): ["__init__", "__eq__", "__contains__"],
                ("offering", "Finishing"): ["__init__", "__eq__", "__len__", "shows"],
@@ -53,7 +55,12 @@ OWN_METHODS = {("rooms", "Room"): ["__init__", "__eq__", "__contains__", "is_bel
                ("mending", "Mend"): ["__init__", "__eq__", "shows"],
                ("plans", "Plan"): ["__init__", "__eq__", "__len__", "shows"],
                ("meanings", "Clear"): ["__init__", "__eq__", "__bool__", "shows"],
-               ("meanings", "Double"): ["__init__", "__eq__", "__bool__", "shows"]}
+               ("meanings", "Double"): ["__init__", "__eq__", "__bool__", "shows"],
+               ("patches", "Patch"): ["__init__", "__eq__", "__len__", "__iter__", "__bool__", "__call__", "edits", "growth"],
+               ("patches", "Together"): ["__init__", "__eq__", "__bool__"],
+               ("patches", "Clash"): ["__init__", "__eq__", "__bool__"],
+               ("crossing", "Crossing"): ["__init__", "__len__", "answer", "rights", "soonest", "always", "spare",
+                                          "each_time"]}
 LIBRARY = {"heapq": {"heappop", "heappush"}}
 
 
@@ -367,7 +374,14 @@ class Interface(TestCase):
                 ("mending", "Mend", "(words, number, chains, exprs)"), ("mending", "mend", "(room, words, need)"),
                 ("plans", "Plan", "(rows, number, table)"), ("plans", "plan", "(deeds, most)"),
                 ("meanings", "meanings", "(room, words)"), ("meanings", "Clear", "(chains, literals)"),
-                ("meanings", "Double", "(words, rows)"), ("meanings", "judge_meanings", "(room)")]:
+                ("meanings", "Double", "(words, rows)"), ("meanings", "judge_meanings", "(room)"),
+                ("keeping", "nodes", "(words)"), ("keeping", "kept", "(words, edit)"), ("keeping", "anew", "(words, edit)"),
+                ("moving", "unused", "(words)"), ("moving", "told_out", "(words, first, last, name)"),
+                ("moving", "put_in", "(words, name)"), ("patches", "Patch", "(changes, least)"),
+                ("patches", "patch", "(edits)"), ("patches", "behind", "(one, other)"),
+                ("patches", "together", "(one, other)"), ("patches", "all_together", "(patches)"),
+                ("patches", "Together", "(whole, one, other)"), ("patches", "Clash", "(one, other)"),
+                ("crossing", "Crossing", "(room, words, events)")]:
             found = inspect.signature(getattr(import_module("typingroom." + name), thing))
             self.assertEqual(str(found), told, thing)
 
@@ -385,6 +399,11 @@ class Interface(TestCase):
                 ("talks", "Talk", "each_right", "(self)"), ("offering", "Finishing", "shows", "(self, room, words)"),
                 ("rivals", "Same", "shows", "(self, one, other)"), ("rivals", "Unlike", "shows", "(self, one, other)"),
                 ("mending", "Mend", "shows", "(self, room, words, need)"), ("plans", "Plan", "shows", "(self, deeds, most)"),
-                ("meanings", "Clear", "shows", "(self, room)"), ("meanings", "Double", "shows", "(self, room)")]:
+                ("meanings", "Clear", "shows", "(self, room)"), ("meanings", "Double", "shows", "(self, room)"),
+                ("patches", "Patch", "__call__", "(self, words)"), ("patches", "Patch", "edits", "(self)"),
+                ("patches", "Patch", "growth", "(self)"), ("crossing", "Crossing", "answer", "(self, number)"),
+                ("crossing", "Crossing", "rights", "(self, number)"), ("crossing", "Crossing", "soonest", "(self, number)"),
+                ("crossing", "Crossing", "always", "(self)"), ("crossing", "Crossing", "spare", "(self)"),
+                ("crossing", "Crossing", "each_time", "(self)")]:
             found = inspect.signature(getattr(getattr(import_module("typingroom." + name), thing), method))
             self.assertEqual(str(found), told, (thing, method))

@@ -65,6 +65,20 @@ def answers_by(reader, words):
     return found + [None] * (len(words) + 1 - len(found))
 
 
+def answers_at(reader, words, places):
+    """A dict from those of the places that the words have to the answers there."""
+    found = {}
+    state = begin()
+    if fewest_to_end(reader, state) is None:
+        state = None
+    for place in range(len(words) + 1):
+        if place in places:
+            found[place] = None if state is None else offers_at(reader, state)
+        if state is not None and place < len(words):
+            state = alive_step(reader, state, words[place])
+    return found
+
+
 def broken(room, words):
     """The place of the first word behind which words are dead, None if they are not."""
     told = checked_words(words)
@@ -86,6 +100,11 @@ class Offers:
 
     def __contains__(self, word):
         return word in self.words or (self.but is not None and is_word(word) and word not in self.but)
+
+
+def copied_answer(told):
+    """A new answer that is equal to one."""
+    return None if told is None else Offers(told.words, told.but)
 
 
 def offers(room, words):

@@ -2,7 +2,7 @@
 
 from typingroom.errors import BadNumber
 from typingroom.kinds import is_within
-from typingroom.offering import Offers, answer_by, answers_by, room_reader
+from typingroom.offering import answer_by, answers_by, copied_answer, room_reader
 from typingroom.words import checked_words
 
 
@@ -47,8 +47,7 @@ class Talk:
 
     def answer(self, number):
         """The answer of a question, at the words of the time when it was asked."""
-        told = self._question(number).told
-        return None if told is None else Offers(told.words, told.but)
+        return copied_answer(self._question(number).told)
 
     def place(self, number):
         """The place of a question now, None if it is gone."""

@@ -1,4 +1,4 @@
-"""Gives as trees, of texts that are whole and have right lets."""
+"""Whole texts as trees."""
 
 from typingroom.errors import NotWhole
 from typingroom.kinds import is_word
@@ -10,14 +10,34 @@ class Node:
     """An expression: a "name" (also a hole), a "call" or a "literal".
 
     The parts are the arguments, or the expressions of the fields; the path has the fields that are taken of a chain.
+    The places are those of its first word and behind its last one, without these fields.
     """
 
-    def __init__(self, shape, word):
+    def __init__(self, shape, word, first):
         self.shape = shape
         self.word = word
         self.fields = []
         self.parts = []
         self.path = []
+        self.first = first
+        self.last = first
+
+    def end(self):
+        """The place behind the last one of the fields that are taken of it."""
+        return self.last + 2 * len(self.path)
+
+
+class Line:
+    """A statement with its places: a let of a word, or a give, of which the word is None.
+
+    The nodes are the expressions in it, each ahead of its parts.
+    """
+
+    def __init__(self, word, first, last, nodes):
+        self.word = word
+        self.first = first
+        self.last = last
+        self.nodes = nodes
 
 
 class Parser:
@@ -53,9 +73,9 @@ class Parser:
         self.at += 1
         return word
 
-    def node(self, shape, word):
-        """A new node."""
-        found = Node(shape, word)
+    def node(self, shape, word, first):
+        """A new node that begins at a place."""
+        found = Node(shape, word, first)
         self.nodes.append(found)
         return found
 
@@ -74,12 +94,36 @@ def read_lets(reader, words):
 
 def give_nodes(words, place):
     """The nodes of a give with which words end, each ahead of its parts."""
-    parser = Parser(words, place)
+    return read_give(Parser(words, place)).nodes
+
+
+def read_text(words):
+    """The list of the lines of a whole text."""
+    parser = Parser(words, 0)
+    lines = []
+    while parser.take_if("let"):
+        first = parser.at - 1
+        word = parser.take_word()
+        parser.take("=")
+        lines.append(read_line(parser, word, first))
+    return lines + [read_give(parser)]
+
+
+def read_give(parser):
+    """Read a give, with which the words end."""
+    first = parser.at
     parser.take("give")
+    line = read_line(parser, None, first)
+    parser.take(None)
+    return line
+
+
+def read_line(parser, word, first):
+    """Read the expression and the end of a statement that begins at a place."""
+    parser.nodes = []
     read_expression(parser)
     parser.take(";")
-    parser.take(None)
-    return parser.nodes
+    return Line(word, first, parser.at, parser.nodes)
 
 
 def read_expression(parser):
@@ -95,21 +139,22 @@ def read_expression(parser):
 
 def begun_node(parser, opened):
     """Read an expression without parts, or the beginning of another one, up to its first part (then None)."""
+    first = parser.at
     if parser.take_if("{"):
-        literal = parser.node("literal", None)
+        literal = parser.node("literal", None, first)
         if parser.take_if("}"):
-            return literal
+            return ended_node(parser, literal)
         opened.append(literal)
         read_field(parser, literal)
         return None
     if parser.take_if(HOLE):
-        return with_path(parser, parser.node("name", HOLE))
+        return ended_node(parser, parser.node("name", HOLE, first))
     word = parser.take_word()
     if not parser.take_if("("):
-        return with_path(parser, parser.node("name", word))
-    call = parser.node("call", word)
+        return ended_node(parser, parser.node("name", word, first))
+    call = parser.node("call", word, first)
     if parser.take_if(")"):
-        return with_path(parser, call)
+        return ended_node(parser, call)
     opened.append(call)
     return None
 
@@ -124,7 +169,7 @@ def further_node(parser, opened, part):
         return None
     parser.take("}" if node.shape == "literal" else ")")
     opened.pop()
-    return node if node.shape == "literal" else with_path(parser, node)
+    return ended_node(parser, node)
 
 
 def read_field(parser, literal):
@@ -133,8 +178,9 @@ def read_field(parser, literal):
     parser.take(":")
 
 
-def with_path(parser, chain):
-    """Read the fields that are taken of a chain, and return it."""
-    while parser.take_if("."):
-        chain.path.append(parser.take_word())
-    return chain
+def ended_node(parser, node):
+    """Read the fields that are taken of a chain, and return the node."""
+    node.last = parser.at
+    while node.shape != "literal" and parser.take_if("."):
+        node.path.append(parser.take_word())
+    return node
