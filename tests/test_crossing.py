@@ -196,7 +196,7 @@ class Errors(TestCase):
 
     def test_events(self):
         for events in [None, 3, "ask", {("ask", 0): 1}, [("ask", 0)] * 61, ("ask", 0), [None], [["ask", 0]], [("ask",)],
-                       [("ask", 0, 0)], [("look", 0)], ["ask"], [Edit], [3], [("ask", 4)], [("ask", -1)], [("ask", True)],
+                       [("ask", 0, 0)], [("look", 0)], [("ask", 0), ("look", 0)], ["ask"], [Edit], [3], [("ask", 4)], [("ask", -1)], [("ask", True)],
                        [("ask", None)], [("ask", "1")], [("drop", 0)], [("ask", 0), ("drop", 1)], [("ask", 0), ("drop", -1)],
                        [("ask", 0), ("drop", False)], [("ask", 0), ("drop", 0), ("drop", 0)], [("drop", 0), ("ask", 0)],
                        [("ask", 0), Edit(0, 0, []), ("drop", 0), Edit(0, 0, []), ("drop", 0)]]:

@@ -217,8 +217,20 @@ class Evidence(TestCase):
             self.assertEqual(Clear(told.chains + [more], told.literals).shows(room), shows, more)
         for more in [(A, A, False), (record(q=B), record(q=B), False), (record(p=A), record(p=B), False)]:
             self.assertFalse(Clear(told.chains, told.literals + [more]).shows(room), more)
+        for more in [None, (), (A, A), (A, A, False, False), [A, A, False], (A, A, 0), (A, "a", False), (("any",), A, True)]:
+            self.assertFalse(Clear(told.chains + [more], told.literals).shows(room), more)
         self.assertTrue(Clear(told.chains * 2, told.literals * 2).shows(room))
         self.assertFalse(Clear([], []).shows(room))
+
+    def test_literals_are_of_records_that_are_asked_and_have_the_same_fields(self):
+        room = read_room(HEAD + "fun f(u: {p: a}): b\nfun g(u: {p: b}): b\nfun h(u: {q: b, r: {}}): b\ngoal a")
+        told = judge_meanings(room)
+        one, other, last = record(p=A), record(p=B), record(q=B, r=record())
+        self.assertEqual([one in [row[0] for row in told.literals] for one in (one, other, last, record())], [True] * 4)
+        for more, shows in [((one, other, False), True), ((other, one, True), True), ((one, last, False), False),
+                            ((last, one, True), False), ((record(p=record()), one, False), False), ((A, A, False), False),
+                            ((one, record(p=record()), False), False), ((record(), record(), False), True)]:
+            self.assertEqual(Clear(told.chains, told.literals + [more]).shows(room), shows, more)
 
     def test_doubles(self):
         room = read_room(HEAD + "fun f(u: a): a\nfun f(u: b): b\ngoal a")

@@ -390,6 +390,8 @@ class Errors(TestCase):
                 raised(BadEdit, together, one, other)
             raised(BadEdit, all_together, [good, bad])
             raised(BadEdit, all_together, (bad,))
+        for bad in (None, 3, good, "x"):
+            raised(BadEdit, all_together, bad)
         clash = [Patch(((0, 1, ("x",)),), 1), Patch(((0, 1, ("y",)),), 1), None]
         raised(BadEdit, all_together, clash)
 

@@ -134,6 +134,8 @@ class Evidence(TestCase):
         for key in table:
             self.assertFalse(Plan(rows, number, {**table, key: table[key] + 1}).shows(DEEDS, 1), key)
             self.assertFalse(Plan(rows, number, {other: table[other] for other in table if other != key}).shows(DEEDS, 1))
+            left = {other: table[other] for other in table if other != key}
+            self.assertFalse(Plan(rows, number, {**left, (9, ()): 0}).shows(DEEDS, 1), key)
         for key in [(4, ()), (0, (1,)), (-1, ()), (1, (6,)), (2, (4,)), (1, (1, 2)), (9, ())]:
             self.assertFalse(Plan(rows, number, {**table, key: 0}).shows(DEEDS, 1), key)
         # What is least for a place need not be told: a lesser number shows as much, if none in front of it is above it.

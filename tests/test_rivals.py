@@ -156,6 +156,19 @@ class Alike(TestCase):
         deep = "i ( { p : h ( { p : g ( { p : f ( { p : x } ) } ) } ) } )".split()
         self.assertEqual(told.words, ["give", "end", "("] + deep + [","] + deep + [")", ";"])
 
+    def test_the_fewest_words_of_several_ways(self):
+        head = "type a\ntype b\ntype c\ntype d\nname x: a\n"
+        for one, words in [
+                ("name y: {p: {p: {p: {p: d}}}}\nfun f(u: a, v: a, w: a): d\ngoal d", "f ( x , x , x )"),
+                ("name y: {p: {p: {p: {p: d}}}}\nfun f(u: a): b\nfun g(u: b): c\nfun h(u: c): d\ngoal d", "y . p . p . p . p"),
+                ("name y: {p: {p: a}}\nfun f(u: c, v: a): d\nfun g(u: {p: {q: a}}): c\ngoal d",
+                 "f ( g ( { p : { q : x } } ) , x )"),
+                ("name y: {p: c}\nfun f(u: c): d\nfun g(u: {q: a}): c\ngoal d", "f ( y . p )"),
+                ("fun f(u: {p: a, q: a}): d\nfun g(u: a, v: a, w: a, y: a, z: a, o: a): d\ngoal d", "f ( { p : x , q : x } )"),
+                ("fun f(u: {p: a, q: a}): d\nfun g(u: a, v: a, w: a, y: a): d\ngoal d", "g ( x , x , x , x )")]:
+            told = judge_rooms(read_room(head + one), read_room(head + "goal d"))
+            self.assertEqual(told.words, ["give"] + words.split() + [";"], one)
+
     def test_words_can_be_more_than_a_text_that_is_given(self):
         head = "type a\ntype b\ntype c\ntype d\nname x: a\n" + "".join(
             f"fun {word}({', '.join(letter + ': ' + kind for letter in 'opqrst')}): {more}\n"
@@ -212,6 +225,8 @@ class Evidence(TestCase):
             self.assertEqual(Same(told.chains + [more], told.literals).shows(room, room), shows, more)
         for more in [((A,), (A,)), ((record(q=B),), (record(q=B),)), ((), ())]:
             self.assertFalse(Same(told.chains, told.literals + [more]).shows(room, room), more)
+        for more in [None, (), ((A,),), ((A,), (A,), (A,)), [(A,), (A,)], ([A], [A]), ((A,), ("a",)), ((A,), None)]:
+            self.assertFalse(Same(told.chains + [more], told.literals).shows(room, room), more)
         self.assertTrue(Same(told.chains + told.chains, told.literals * 2).shows(room, room))
 
     def test_other_rooms(self):

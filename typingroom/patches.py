@@ -180,7 +180,7 @@ def rest_behind(one, other):
     changes = []
     for first, last, words in one.changes:
         if (first, last, words) not in other.changes:
-            ahead = [change for change in other.changes if change[1] <= first and change[:2] != (first, last)]
+            ahead = [change for change in other.changes if change[1] <= first]
             more = sum([growth_of(change) for change in ahead])
             changes.append((first + more, last + more, words))
     return Patch(as_one(changes), max(one.least, other.least) + other.growth())

@@ -81,8 +81,8 @@ def choices(deed, kept, most):
     place = deed[1]
     if deed[0] == "edit":
         return [tuple([at for at in kept if at <= place])]
-    read = list(range(nearest(kept, place) + 1, place + 1))
-    return some_of(sorted(list(kept) + [at for at in read if at not in kept]), most)
+    # No place that is kept lies behind the nearest one, and up to the one asked.
+    return some_of(sorted(list(kept) + list(range(nearest(kept, place) + 1, place + 1))), most)
 
 
 def some_of(places, most):
