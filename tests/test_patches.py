@@ -402,6 +402,10 @@ class Errors(TestCase):
         self.assertEqual(told, patch([Edit(0, 1, ["x"]), Edit(3, 3, ["y"])]))
         told.edits().clear()
         self.assertEqual(len(told.edits()), 2)
+        one = Patch((), 3)
+        both = Together(one, one, one)
+        one.changes, one.least = ((0, 1, ()),), 1
+        self.assertEqual([both.whole, both.one, both.other], [Patch((), 3)] * 3)
         rows = [told, Patch((), 3)]
         all_together(rows)
         self.assertEqual([len(rows), rows[0]], [2, told])

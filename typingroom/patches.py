@@ -59,9 +59,9 @@ class Together:
     """The patch of two hands, and what each one has still to do behind the other one."""
 
     def __init__(self, whole, one, other):
-        self.whole = whole
-        self.one = one
-        self.other = other
+        self.whole = copied(whole)
+        self.one = copied(one)
+        self.other = copied(other)
 
     def __eq__(self, other):
         if not isinstance(other, Together):
@@ -86,6 +86,11 @@ class Clash:
 
     def __bool__(self):
         return False
+
+
+def copied(told):
+    """A new patch that is equal to one."""
+    return Patch(told.changes, told.least)
 
 
 def is_change(thing):
