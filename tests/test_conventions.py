@@ -1,5 +1,7 @@
 """Point [1] at all doors: nothing that is given is changed or kept, and what is returned is new and the same again."""
 
+import inspect
+import sys
 from unittest import TestCase
 
 from tests.samples import DAYS, base, days, record
@@ -268,3 +270,42 @@ class Classes(TestCase):
                      list(crossed.each_time()), patched.edits(), list(patched), patched(["x"] * 4), talk.answer(0)]
             self.assertEqual(told(found), expected)
         self.assertEqual(told([crossed, patched]), before)
+
+
+class Depth(TestCase):
+    """No door goes deeper into calls for deeper texts."""
+
+    ROOM = ("type a\nname x: a\nfun f(u: a): a\nfun g(u: {p: a}): a\nfun h(u: a =, v: {p: a} =): {p: a}\ngoal a\n")
+    CALLS = ["give"] + ["f", "("] * 65 + ["x"] + [")"] * 65 + [";"]
+    BRACES = ["give"] + ["g", "(", "{", "p", ":"] * 27 + ["x"] + ["}", ")"] * 27 + [";"]
+
+    def shallow(self, work, *given):
+        """What a call returns, when it may only go so deep."""
+        before = sys.getrecursionlimit()
+        sys.setrecursionlimit(len(inspect.stack(0)) + 60)
+        try:
+            return work(*given)
+        finally:
+            sys.setrecursionlimit(before)
+
+    def test_begun_texts(self):
+        room = roomtexts.read_room(self.ROOM)
+        for row in (["f", "("], ["g", "(", "{", "p", ":"], ["h", "(", "x", ","]):
+            told = (["give"] + row * 99)[:1 + 198 // len(row) * len(row)]
+            for door in (offering.offers, offering.broken, offering.finish, helping.meant, edits.answers):
+                self.shallow(door, room, told)
+            self.assertEqual(self.shallow(counting.endings, room, told, 9), [0] * 9)
+            self.assertIsNone(self.shallow(counting.number_of, room, told, ["x"]))
+
+    def test_whole_texts(self):
+        room = roomtexts.read_room(self.ROOM)
+        for told in (self.CALLS, self.BRACES):
+            holed = ["?" if word == "x" else word for word in told]
+            self.assertTrue(self.shallow(checking.is_right, room, told))
+            self.assertEqual(self.shallow(holes.hole, room, holed), [base("a")])
+            self.assertEqual(len(self.shallow(meanings.meanings, room, told)), 1)
+            self.assertEqual(self.shallow(keeping.nodes, told)[0], ("give", 0, len(told)))
+            self.assertEqual(self.shallow(moving.told_out, told, 1, len(told) - 1, "k")[-3:], ["give", "k", ";"])
+            self.assertIsNone(self.shallow(edits.answers, room, told + ["x"])[-1])
+            crossed = self.shallow(crossing.Crossing, room, told, [("ask", 150), Edit(0, 1, ["give"])])
+            self.assertEqual(crossed.always(), [0])

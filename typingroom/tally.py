@@ -21,8 +21,12 @@ class Tally:
         self._states = []
         self._masks = []
         self._nexts = {}
-        for frame in frames_of(state):
+        frames = frames_of(state)
+        for frame in frames:
             self._kept_frame(frame)
+        # From the outside inwards, so that what is behind deep frames is not found by deep recursion.
+        for frame in frames[:-1]:
+            self._lengths.ends_in(frame)
         self.start = self._numbered(state)
 
     def nexts(self, number):
